@@ -1,0 +1,1 @@
+"""Truceroll: which sayings clash, which can stand together, and why."""
