@@ -73,6 +73,14 @@ def clause_holds(clause, facts):
     return any(facts[name] == truth for name, truth in clause)
 
 
+def clauses_over(names):
+    """All clauses over these names, in no order that counts."""
+    rows = []
+    for truths in itertools.product((None, False, True), repeat=len(names)):
+        rows.append(tuple((name, truth) for name, truth in zip(sorted(names), truths) if truth is not None))
+    return rows
+
+
 def things_of_other_kinds():
     """Things that are no text and no tuple."""
     knot = []

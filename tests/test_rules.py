@@ -42,7 +42,7 @@ class Rules(unittest.TestCase):
             self.assertIs(is_rule(rule), True, rule)
 
     def test_another_word(self):
-        for word in ["", "Yes", "NO", "yes ", " yes", "xor", "nor", "if", "then ", "a", None, 0, True, ("yes",), b"yes"]:
+        for word in ["", "Yes", "NO", "yes ", " yes", "xor", "if", "then ", "a", None, 0, True, ("yes",), b"yes"]:
             for rule in [(word,), (word, "a"), (word, A), (word, A, B)]:
                 self.assertIs(is_rule(rule), False, rule)
                 self.assertIs(is_rule(("not", rule)), False, rule)
