@@ -81,6 +81,70 @@ def clauses_over(names):
     return rows
 
 
+def plain_follows(rule, clause):
+    names = plain_names(rule) | {name for name, truth in clause}
+    return all(clause_holds(clause, facts) for facts in plain_facts(names) if plain_truth(rule, facts))
+
+
+def plain_shortest(rule, names):
+    """A look over all clauses over these names and all facts."""
+    following = [clause for clause in clauses_over(names) if plain_follows(rule, clause)]
+    least = [clause for clause in following if not any(set(part) < set(clause) for part in following)]
+    return sorted(least, key=lambda clause: (len(clause), clause))
+
+
+def first_facts(rules):
+    """A look over all facts: the first under which all rules hold, or None."""
+    names = set().union(*(plain_names(rule) for rule in rules))
+    for facts in plain_facts(names):
+        if all(plain_truth(rule, facts) for rule in rules):
+            return facts
+    return None
+
+
+def all_parts(whole):
+    """All parts of a set, in order."""
+    return [part for many in range(len(whole) + 1) for part in itertools.combinations(sorted(whole), many)]
+
+
+def plain_order(family):
+    return sorted(set(family), key=lambda part: (len(part), part))
+
+
+def plain_least(family):
+    return [part for part in plain_order(family) if not any(set(other) < set(part) for other in family)]
+
+
+def plain_greatest(family):
+    return [part for part in plain_order(family) if not any(set(part) < set(other) for other in family)]
+
+
+def plain_crossings(family):
+    """A look over all sets of members."""
+    members = sorted(set().union(*family))
+    return plain_least([part for part in all_parts(members) if all(set(part) & set(other) for other in family)])
+
+
+def random_set(chance, members, least=0, most=None):
+    return tuple(sorted(chance.sample(members, chance.randint(least, len(members) if most is None else most))))
+
+
+def asker_of(clashes, asked=None):
+    """An asker to which just those sets clash that hold one of these; what it is asked about is put into the list."""
+    def ask(part):
+        if asked is not None:
+            asked.append(part)
+        return not any(set(clash) <= set(part) for clash in clashes)
+    return ask
+
+
+def nested_far(many=100000):
+    thing = ()
+    for _ in range(many):
+        thing = (thing,)
+    return thing
+
+
 def things_of_other_kinds():
     """Things that are no text and no tuple."""
     knot = []

@@ -26,6 +26,7 @@ SHUT_WORDS = re.compile(r"\b(type|typing|typing_extensions|enum|Enum|IntEnum|Str
 SHUT_NAMES = {"register", "mro", "elements", "open", "input", "version_info", "with_traceback", "add_note", "args",
               "format", "format_map"}
 WALKED = {"zip", "enumerate", "reversed", "range"}
+WALKERS = {"list", "tuple", "dict", "sorted", "sum", "any", "all", "enumerate", "zip"}
 
 
 def files():
@@ -113,18 +114,32 @@ def faults_of_defs(node):
 
 def faults_of_sets_and_walks(tree):
     """A set, and what is walked at once, only where L23 and L24 let them stand."""
-    good = set()
+    walks, sets = set(), set()
     for node in ast.walk(tree):
         if isinstance(node, (ast.For, ast.comprehension)):
-            good.add(node.iter)
-        if isinstance(node, ast.Call) and isinstance(node.func, ast.Name) and node.args:
-            if node.func.id in OWN_NAMES and not (node.keywords and called(node.args[0]) == "set"):
-                good.add(node.args[0])
+            walks.add(node.iter)
+        if isinstance(node, ast.Compare) and isinstance(node.ops[-1], (ast.In, ast.NotIn)):
+            sets.add(node.comparators[-1])
+        if isinstance(node, ast.Call) and node.args:
+            if called(node) in WALKERS or called(node) in ("min", "max") and len(node.args) == 1 or is_join(node):
+                walks.add(node.args[0])
+            if called(node) in ("sorted", "len") and not node.keywords:
+                sets.add(node.args[0])
     for node in ast.walk(tree):
-        if called(node) in WALKED | {"set"} and node not in good:
-            yield f"L23, L24 {node.func.id}"
-        if isinstance(node, (ast.For, ast.comprehension)) and called(node.iter) == "set":
-            yield "L24 set walked"
+        if (called(node) in WALKED or is_view(node)) and node not in walks:
+            yield f"L23 line {node.lineno}"
+        if called(node) == "set" and node not in sets:
+            yield f"L24 line {node.lineno}"
+
+
+def is_join(node):
+    func = node.func
+    return isinstance(func, ast.Attribute) and func.attr == "join" and isinstance(func.value, ast.Constant)
+
+
+def is_view(node):
+    return (isinstance(node, ast.Call) and isinstance(node.func, ast.Attribute)
+            and node.func.attr in ("items", "keys", "values"))
 
 
 def called(node):

@@ -2,8 +2,8 @@
 
 import unittest
 
-from helper import (A, B, C, all_of, clause_holds, clauses_over, nested, plain_facts, plain_names, plain_truth,
-                    random_rules)
+from helper import (A, B, C, all_of, clause_holds, clauses_over, nested, plain_facts, plain_follows, plain_names,
+                    plain_shortest, plain_truth, random_rules)
 from truceroll.clauses import clauses_in_order
 from truceroll.shortest import follows, shortest_of
 
@@ -11,18 +11,6 @@ T, F = True, False
 YES, NO = ("yes",), ("no",)
 NOT_A = ("not", A)
 EXCLUDED = ("or", A, NOT_A)
-
-
-def plain_follows(rule, clause):
-    names = plain_names(rule) | {name for name, truth in clause}
-    return all(clause_holds(clause, facts) for facts in plain_facts(names) if plain_truth(rule, facts))
-
-
-def plain_shortest(rule, names):
-    """A look over all clauses over these names and all facts."""
-    following = [clause for clause in clauses_over(names) if plain_follows(rule, clause)]
-    least = [clause for clause in following if not any(set(part) < set(clause) for part in following)]
-    return sorted(least, key=lambda clause: (len(clause), clause))
 
 
 class Follows(unittest.TestCase):

@@ -5,21 +5,12 @@ import itertools
 import random
 import unittest
 
-from helper import A, B, C, nested, plain_facts, plain_names, plain_truth, random_rule, random_rules
+from helper import A, B, C, first_facts, nested, plain_names, random_rule, random_rules
 from truceroll.shortest import shortest_of
 from truceroll.solver import answer
 
 TWELVE = list("abcdefghijkl")
 YES, NO = ("yes",), ("no",)
-
-
-def first_facts(rules):
-    """A look over all facts."""
-    names = set().union(*(plain_names(rule) for rule in rules))
-    for facts in plain_facts(names):
-        if all(plain_truth(rule, facts) for rule in rules):
-            return facts
-    return None
 
 
 def odd(names, truth):
