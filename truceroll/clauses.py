@@ -2,6 +2,7 @@
 
 from truceroll.errors import NoJoin
 from truceroll.rules import is_name
+from truceroll.things import each_once_in_order
 
 
 def is_clause(thing):
@@ -15,15 +16,7 @@ def is_literal(thing):
 
 
 def clauses_in_order(clauses):
-    each = {}
-    for clause in clauses:
-        each[clause] = True
-    return sorted(each, key=order_of_clause)
-
-
-def order_of_clause(clause):
-    # Python compares tuples by the first place in which they differ, and False is less than True.
-    return (len(clause), clause)
+    return each_once_in_order(clauses)
 
 
 def is_clause_part(one, other):

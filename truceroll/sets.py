@@ -1,6 +1,6 @@
 """Sets: what is one, their order, their parts, and the least and greatest of some."""
 
-from truceroll.things import is_whole_number
+from truceroll.things import each_once_in_order, is_whole_number
 
 
 def is_set(thing):
@@ -21,15 +21,7 @@ def is_part(one, other):
 
 
 def in_order(family):
-    each = {}
-    for part in family:
-        each[part] = True
-    return sorted(each, key=order_of_set)
-
-
-def order_of_set(part):
-    # Python compares tuples by the first place in which they differ.
-    return (len(part), part)
+    return each_once_in_order(family)
 
 
 def least_of(family):
