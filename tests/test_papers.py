@@ -4,8 +4,8 @@ import copy
 import random
 import unittest
 
-from helper import (A, B, C, Touchy, all_of, first_facts, nested_far, plain_names, plain_shortest, random_rules,
-                    things_of_other_kinds)
+from helper import (A, B, C, Touchy, all_of, first_facts, is_formed, is_plain_paper, lines_put_otherwise, nested_far,
+                    random_rules, things_of_other_kinds, with_line, with_part)
 from truceroll.papers import is_paper, leaned_on
 from truceroll.sets import is_set
 from truceroll.solver import answer
@@ -18,76 +18,6 @@ CHAIN = [A, ("then", A, B), ("then", B, C), NOT_C]
 CHAIN_PAPER = [("rule", 0, (("a", T),)), ("rule", 1, (("a", F), ("b", T))), ("join", 0, 1, "a", (("b", T),)),
                ("rule", 2, (("b", F), ("c", T))), ("join", 2, 3, "b", (("c", T),)), ("rule", 3, (("c", F),)),
                ("join", 4, 5, "c", ())]
-
-
-def is_number(thing, bound):
-    return type(thing) is int and thing in range(bound)
-
-
-def is_plain_line(shortest, lines, place):
-    line = lines[place]
-    if type(line) is not tuple or any(type(literal) is not tuple or type(literal[1]) is not bool
-                                      for literal in line[-1]):
-        return False
-    if line[0] == "rule":
-        return len(line) == 3 and is_number(line[1], len(shortest)) and line[2] in shortest[line[1]]
-    if line[0] != "join" or len(line) != 5 or not is_number(line[1], place) or not is_number(line[2], place):
-        return False
-    one, other, name = set(lines[line[1]][-1]), set(lines[line[2]][-1]), line[3]
-    rest = (one - {(name, T)}) | (other - {(name, F)})
-    once = len({literal[0] for literal in rest} | {name}) == len(rest) + 1
-    return (name, T) in one and (name, F) in other and once and line[4] == tuple(sorted(rest))
-
-
-def is_plain_paper(rules, lines):
-    """By the words of [14], for lists of tuples whose last parts are tuples."""
-    shortest = [plain_shortest(rule, plain_names(rule)) for rule in rules]
-    return (len(lines) > 0 and all(is_plain_line(shortest, lines, place) for place in range(len(lines)))
-            and lines[-1][-1] == ())
-
-
-def with_line(lines, place, line):
-    """The lines with one put in ahead of the place, the numbers of lines put right."""
-    def moved(number):
-        return number + 1 if number >= place else number
-    behind = [("join", moved(row[1]), moved(row[2]), *row[3:]) if row[0] == "join" else row for row in lines[place:]]
-    return lines[:place] + [line] + behind
-
-
-def with_part(lines, place, number, part):
-    line = lines[place]
-    return lines[:place] + [line[:number] + (part,) + line[number + 1:]] + lines[place + 1:]
-
-
-def is_formed(lines):
-    return len(lines) > 0 and all(len(line) == {"rule": 3, "join": 5}[line[0]] for line in lines)
-
-
-def put_otherwise(chance, lines):
-    """The lines with one thing or another changed."""
-    place = chance.randrange(len(lines))
-    line, other = lines[place], chance.choice(lines)
-    ways = [
-        lambda: with_part(lines, place, 0, "join" if line[0] == "rule" else "rule"),
-        lambda: with_part(lines, place, 1, line[1] + chance.choice((-1, 1))),
-        lambda: with_part(lines, place, 1, chance.randrange(len(lines))),
-        lambda: with_part(lines, place, len(line) - 1, other[-1]),
-        lambda: with_part(lines, place, len(line) - 1, line[-1][1:]),
-        lambda: with_part(lines, place, len(line) - 1, line[-1][::-1]),
-        lambda: with_part(lines, place, len(line) - 1, tuple((name, not truth) for name, truth in line[-1])),
-        lambda: lines[:place] + lines[place + 1:],
-        lambda: lines[:place] + [line] + lines[place:],
-        lambda: with_line(lines, place, line),
-        lambda: lines[:place] + lines[place:place + 2][::-1] + lines[place + 2:],
-        lambda: lines[:place] + [other] + lines[place + 1:],
-        lambda: lines[:place + 1]]
-    if line[0] == "join":
-        ways += [
-            lambda: with_part(lines, place, 2, line[2] + chance.choice((-1, 1))),
-            lambda: with_part(lines, place, 2, chance.randrange(len(lines))),
-            lambda: with_part(lines, place, 3, chance.choice("abcdef")),
-            lambda: with_part(with_part(lines, place, 1, line[2]), place, 2, line[1])]
-    return chance.choice(ways)()
 
 
 def clashing(seeds, many, names, depth):
@@ -153,9 +83,9 @@ class IsPaper(unittest.TestCase):
         counts = {True: 0, False: 0}
         for rules, lines in [(CHAIN, CHAIN_PAPER), *clashing(range(300, 360), 6, list("abcd"), 3)]:
             for _ in range(40):
-                other = put_otherwise(chance, lines)
+                other = lines_put_otherwise(chance, lines)
                 if chance.random() < 0.3 and is_formed(other):
-                    other = put_otherwise(chance, other)
+                    other = lines_put_otherwise(chance, other)
                 good = is_plain_paper(rules, other)
                 self.assertIs(is_paper(rules, other), good, (rules, other))
                 counts[good] += 1
@@ -173,7 +103,7 @@ class IsPaper(unittest.TestCase):
                 if first_facts(weaker) is not None:
                     self.refuses(weaker, lines)
                     for _ in range(10):
-                        self.refuses(weaker, put_otherwise(chance, lines))
+                        self.refuses(weaker, lines_put_otherwise(chance, lines))
                     tried += 1
         self.assertGreater(tried, 20)
 

@@ -5,7 +5,8 @@ import itertools
 import random
 import unittest
 
-from helper import (all_parts, nested_far, plain_crossings, plain_greatest, random_set, things_of_other_kinds)
+from helper import (all_parts, nested_far, plain_crossings, plain_greatest, random_set, strays_of,
+                    things_of_other_kinds)
 from truceroll.trees import is_tree, tree_of
 
 HUGE = 10 ** 101 - 1
@@ -36,12 +37,6 @@ def is_plain_tree(whole, clashes, peaces, tree):
         if word == "peace" and not (part in peaces and {(member, False) for member in left_out} <= set(way)):
             return False
     return True
-
-
-def walked(tree, part):
-    while tree[0] == "ask":
-        tree = tree[2] if tree[1] in part else tree[3]
-    return tree
 
 
 def spots_of(tree, spot=()):
@@ -307,15 +302,7 @@ class TreeOf(unittest.TestCase):
         self.assertEqual(told[0], "tree")
         self.assertIs(is_tree(whole, clashes, peaces, told[1]), True)
         self.assertTrue(is_plain_tree(whole, clashes, peaces, told[1]))
-        for part in all_parts(whole):
-            word, end = walked(told[1], part)
-            if word == "clash":
-                self.assertIn(end, clashes)
-                self.assertLessEqual(set(end), set(part))
-            else:
-                self.assertEqual(word, "peace")
-                self.assertIn(end, peaces)
-                self.assertLessEqual(set(part), set(end))
+        self.assertEqual(strays_of(whole, clashes, peaces, told[1]), [])
         return "tree"
 
     def test_no_clashes_and_no_peaces(self):

@@ -40,3 +40,9 @@ def label_of(saying):
 
 def rule_of(saying):
     return saying[1]
+
+
+def rules_beside(firm, heap, part):
+    # The firm rules and, behind them, the sayings with the labels of the set from the least on: the row of all papers.
+    sayings = [saying for saying in heap if label_of(saying) in part]
+    return firm + [rule_of(saying) for saying in sorted(sayings, key=label_of)]

@@ -4,24 +4,28 @@ from truceroll.clauses import is_clause, joined
 from truceroll.errors import NoJoin
 from truceroll.rules import is_name
 from truceroll.sets import set_of
-from truceroll.shortest import shortest_of
+from truceroll.shortest import shortest_of_each
 from truceroll.things import is_whole_number, is_worded
 
 
 def is_paper(rules, thing):
+    return is_paper_by(shortest_of_each(rules), rules, thing)
+
+
+def is_paper_by(shortest, rules, thing):
     if not isinstance(thing, list) or len(thing) == 0:
         return False
-    shortest = [shortest_of(rule) for rule in rules]
+    clauses = [shortest[rule] for rule in rules]
     for place in range(len(thing)):
-        if not is_line(shortest, thing, place):
+        if not is_line(clauses, thing, place):
             return False
     return thing[-1][-1] == ()
 
 
-def is_line(shortest, lines, place):
+def is_line(clauses, lines, place):
     line = lines[place]
     if is_worded(line, "rule", 3):
-        return is_number_below(line[1], len(shortest)) and is_clause(line[2]) and line[2] in shortest[line[1]]
+        return is_number_below(line[1], len(clauses)) and is_clause(line[2]) and line[2] in clauses[line[1]]
     if not is_worded(line, "join", 5) or not is_name(line[3]) or not is_clause(line[4]):
         return False
     if not is_number_below(line[1], place) or not is_number_below(line[2], place):

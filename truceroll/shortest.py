@@ -20,6 +20,13 @@ def shortest_of(rule):
     return clauses_in_order([clause for clause in following if not has_shorter(clause, following)])
 
 
+def shortest_of_each(rules):
+    each = {}
+    for rule in rules:
+        each[rule] = shortest_of(rule)
+    return each
+
+
 def following_over(names, rows):
     # Each clause is made longer name by name, together with the rows under which it doesn't hold yet.
     pairs = [((), rows)]

@@ -3,11 +3,16 @@
 from truceroll.clauses import joined
 from truceroll.facts import with_fact
 from truceroll.rules import names_of_all
-from truceroll.shortest import shortest_of
+from truceroll.shortest import shortest_of_each
 
 
 def answer(rules):
-    search = Search(rules)
+    return answer_by(shortest_of_each(rules), rules)
+
+
+def answer_by(shortest, rules):
+    # Who asks about several heaps of the same rules finds their shortest clauses once and hands them in.
+    search = Search(shortest, rules)
     found = search.found_from({})
     if found[0] == "peace":
         return found
@@ -18,12 +23,12 @@ class Search:
     # Facts are tried in their order, name by name. Each way that ends tells a clause that stands against it, and
     # two such clauses are joined into one that stands against both their ways, until nothing is left of it.
 
-    def __init__(self, rules):
+    def __init__(self, shortest, rules):
         self.names = names_of_all(rules)
         self.origins = {}
         self.known = {}
         for number, rule in enumerate(rules):
-            for clause in shortest_of(rule):
+            for clause in shortest[rule]:
                 self.learn(clause, ("rule", number))
 
     def learn(self, clause, origin):
