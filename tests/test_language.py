@@ -25,6 +25,9 @@ SHUT_WORDS = re.compile(r"\b(type|typing|typing_extensions|enum|Enum|IntEnum|Str
                         r"|dataclass|overload|contextmanager")
 SHUT_NAMES = {"register", "mro", "elements", "open", "input", "version_info", "with_traceback", "add_note", "args",
               "format", "format_map"}
+KEYWORDS = {"sorted": {"key", "reverse"}, "min": {"key", "default"}, "max": {"key", "default"}, "sum": {"start"},
+            "enumerate": {"start"}, "zip": {"strict"}}
+KINDS = {"int", "str", "bool", "list", "tuple", "dict"}
 WALKED = {"zip", "enumerate", "reversed", "range"}
 WALKERS = {"list", "tuple", "dict", "sorted", "sum", "any", "all", "enumerate", "zip"}
 
@@ -77,8 +80,28 @@ def faults_of_node(node):
     if isinstance(node, ast.Compare) and any(isinstance(op, (ast.Is, ast.IsNot)) for op in node.ops):
         if not (isinstance(node.comparators[-1], ast.Constant) and node.comparators[-1].value in (None, True, False)):
             yield "L20 is"
+    if isinstance(node, ast.FormattedValue):
+        if not isinstance(node.value, ast.Name) or node.format_spec or node.conversion not in (-1, ord("r")):
+            yield "L7 f-string"
     yield from faults_of_names(node)
     yield from faults_of_defs(node)
+    yield from faults_of_calls(node)
+
+
+def faults_of_calls(node):
+    if isinstance(node, ast.Call):
+        keywords = {keyword.arg for keyword in node.keywords}
+        if not keywords <= KEYWORDS.get(called(node), set()):
+            yield f"L22 keywords {keywords}"
+        if called(node) == "isinstance":
+            kinds = node.args[1].elts if isinstance(node.args[1], ast.Tuple) else [node.args[1]]
+            if not all(isinstance(kind, ast.Name) and kind.id in KINDS for kind in kinds):
+                yield "L22 isinstance"
+    if isinstance(node, ast.ExceptHandler):
+        if not isinstance(node.type, ast.Name) or node.type.id in OWN_NAMES - {"KeyError", "ZeroDivisionError"}:
+            yield "L19 except"
+    if isinstance(node, ast.Raise) and not (isinstance(node.exc, ast.Call) and node.cause is None):
+        yield "L19 raise"
 
 
 def faults_of_names(node):
@@ -142,6 +165,15 @@ def is_view(node):
             and node.func.attr in ("items", "keys", "values"))
 
 
+def walked_by(node):
+    """What a loop walks: itself, or through `enumerate`, `zip`, `reversed`, `items` and their like."""
+    if isinstance(node, ast.Call) and called(node) in ("enumerate", "zip", "reversed"):
+        return [part for below in node.args for part in walked_by(below)]
+    if is_view(node):
+        return [node.func.value]
+    return [node]
+
+
 def called(node):
     return node.func.id if isinstance(node, ast.Call) and isinstance(node.func, ast.Name) else None
 
@@ -191,6 +223,71 @@ class Language(unittest.TestCase):
                     there = {part.name for part in source.body if isinstance(part, (ast.FunctionDef, ast.ClassDef))}
                     there |= {part.targets[0].id for part in source.body if isinstance(part, ast.Assign)}
                     self.assertLessEqual({alias.name for alias in node.names}, there, path.name)
+
+    def test_no_parameter_and_no_local_is_called_like_a_class_or_an_import_of_its_file(self):
+        for path, tree in trees():
+            shut = {alias.name for node in tree.body if isinstance(node, ast.ImportFrom) for alias in node.names}
+            shut |= {node.name for node in tree.body if isinstance(node, ast.ClassDef)}
+            inside = {node.arg for node in ast.walk(tree) if isinstance(node, ast.arg)}
+            inside |= {node.id for node in ast.walk(tree)
+                       if isinstance(node, ast.Name) and isinstance(node.ctx, ast.Store)}
+            self.assertEqual(inside & shut, set(), path.name)
+
+    def test_classes_and_functions_of_pythons_own_are_called_where_they_stand(self):
+        for path, tree in trees():
+            classes = {node.name for node in tree.body if isinstance(node, ast.ClassDef)}
+            classes |= {alias.name for node in tree.body if isinstance(node, ast.ImportFrom) for alias in node.names
+                        if alias.name[0].isupper() and not alias.name.isupper()}
+            fitting = set()
+            for node in ast.walk(tree):
+                if isinstance(node, ast.Call):
+                    fitting |= {node.func}
+                    fitting |= set(ast.walk(node.args[1])) if called(node) == "isinstance" else set()
+                    fitting |= {keyword.value for keyword in node.keywords if keyword.arg == "key"}
+                if isinstance(node, ast.ClassDef):
+                    fitting |= set(node.bases)
+                if isinstance(node, ast.ExceptHandler):
+                    fitting.add(node.type)
+                if isinstance(node, ast.Attribute) and node.attr == "__init__":
+                    fitting.add(node.value)
+            for node in ast.walk(tree):
+                if isinstance(node, ast.Name) and node.id in classes | OWN_NAMES:
+                    self.assertIn(node, fitting, f"{path.name} line {node.lineno}: {node.id}")
+
+    def test_methods_are_called_where_they_stand(self):
+        methods = set(OWN_METHODS)
+        for _, tree in trees():
+            for node in ast.walk(tree):
+                if isinstance(node, ast.ClassDef):
+                    methods |= {part.name for part in node.body if isinstance(part, ast.FunctionDef)}
+        for path, tree in trees():
+            called_there = {node.func for node in ast.walk(tree) if isinstance(node, ast.Call)}
+            for node in ast.walk(tree):
+                if isinstance(node, ast.Attribute) and node.attr in methods:
+                    self.assertIn(node, called_there, f"{path.name} line {node.lineno}: {node.attr}")
+
+    def test_what_a_loop_walks_is_not_changed_in_it(self):
+        changing = {"append", "clear", "extend", "insert", "pop", "remove", "reverse", "setdefault", "update"}
+        for path, tree in trees():
+            for loop in ast.walk(tree):
+                if isinstance(loop, ast.For):
+                    walked = {ast.unparse(node) for node in walked_by(loop.iter)}
+                    for node in ast.walk(ast.Module(body=loop.body, type_ignores=[])):
+                        if isinstance(node, ast.Subscript) and isinstance(node.ctx, ast.Store):
+                            self.assertNotIn(ast.unparse(node.value), walked, f"{path.name} line {node.lineno}")
+                        if isinstance(node, ast.Attribute) and node.attr in changing:
+                            self.assertNotIn(ast.unparse(node.value), walked, f"{path.name} line {node.lineno}")
+
+    def test_tops_are_only_read(self):
+        for path, tree in trees():
+            tops = {node.targets[0].id for node in tree.body if isinstance(node, ast.Assign)
+                    and isinstance(node.value, (ast.Dict, ast.List))}
+            for node in ast.walk(tree):
+                if isinstance(node, ast.Call):
+                    handed = {part.id for part in node.args if isinstance(part, ast.Name)}
+                    self.assertTrue(called(node) in ("len", "sorted", "list", "dict") or not handed & tops, path.name)
+                if isinstance(node, (ast.Return, ast.Assign)) and isinstance(node.value, ast.Name):
+                    self.assertNotIn(node.value.id, tops, path.name)
 
     def test_no_name_is_a_method_and_a_value(self):
         methods, values = set(), set()

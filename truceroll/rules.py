@@ -2,6 +2,7 @@
 
 MOST_LETTERS = 8
 MOST_DEEP = 6
+MOST_DEEP_WISH = 5
 MOST_NAMES = 5
 
 # How many rules stand behind a word; behind `is` stands a name, so it isn't here.
@@ -16,6 +17,11 @@ def is_name(thing):
 
 def is_rule(thing):
     return has_form(thing, MOST_DEEP) and len(names_of(thing)) <= MOST_NAMES
+
+
+def is_wish(thing):
+    # A wish is denied by one word more, and then it still has to be a rule.
+    return is_rule(thing) and has_form(thing, MOST_DEEP_WISH)
 
 
 def has_form(thing, deepest):
